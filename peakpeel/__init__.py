@@ -1,0 +1,1 @@
+"""Rows of integers that lose their peaks, round by round."""

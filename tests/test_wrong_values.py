@@ -1,0 +1,160 @@
+"""Tests of the errors of peakpeel.rows, peakpeel.times and peakpeel.counting: point 5."""
+
+import copy
+import itertools
+import types
+import unittest
+
+from peakpeel import errors
+from peakpeel.counting import count_times, count_with, nth_times, times_number, walk_times
+from peakpeel.rows import block_sizes, peaks_of, peel_steps, peeled
+from peakpeel.times import places_in_round, relation, rounds_needed, row_with, times_of
+from tests.plain import drawn_rows, plain_times
+from tests.wrong import NOT_INTEGERS, NOT_ROWS, ROWS_NOT_TIMES
+
+ROW = [5, 1, 4, 2, 3]
+TIMES = [1, 3, 1, 2, 1]
+
+# For each kind of parameter a valid value, its wrong ones and their error.
+ROW_KIND = (ROW, NOT_ROWS, errors.InvalidRow)
+TIMES_KIND = (TIMES, NOT_ROWS + ROWS_NOT_TIMES, errors.InvalidTimes)
+PLACE_KIND = (2, NOT_INTEGERS + [-1, -5, 5, 6, 10 ** 30, -10 ** 30], errors.InvalidPlace)
+OTHER_KIND = (4, PLACE_KIND[1], errors.InvalidPlace)
+ROUNDS_KIND = (1, NOT_INTEGERS + [-1, -10 ** 30], errors.InvalidRounds)
+ROUND_KIND = (1, NOT_INTEGERS + [0, -1, -10 ** 30], errors.InvalidRounds)
+LENGTH_KIND = (3, NOT_INTEGERS + [-1, 41, 42, 10 ** 30, -10 ** 30], errors.InvalidNumber)
+NUMBER_KIND = (3, NOT_INTEGERS + [-1, -9, 9, 10, 10 ** 30], errors.InvalidNumber)
+
+FUNCTIONS = [
+    (peaks_of, [ROW_KIND]),
+    (peeled, [ROW_KIND, ROUNDS_KIND]),
+    (peel_steps, [ROW_KIND]),
+    (block_sizes, [ROW_KIND, PLACE_KIND]),
+    (times_of, [ROW_KIND]),
+    (rounds_needed, [ROW_KIND]),
+    (places_in_round, [ROW_KIND, ROUND_KIND]),
+    (row_with, [TIMES_KIND]),
+    (relation, [TIMES_KIND, PLACE_KIND, OTHER_KIND]),
+    (count_times, [LENGTH_KIND]),
+    (count_with, [LENGTH_KIND, LENGTH_KIND]),
+    (nth_times, [LENGTH_KIND, NUMBER_KIND]),
+    (times_number, [TIMES_KIND]),
+    (walk_times, [LENGTH_KIND]),
+]
+GENERATORS = [peel_steps, walk_times]
+
+
+def answer(function, arguments):
+    """The function's answer, or the first item of a generator."""
+    told = function(*arguments)
+    return next(told) if function in GENERATORS else told
+
+
+class WrongTest(unittest.TestCase):
+    def check(self, function, arguments, error):
+        with self.assertRaises(errors.PeakError) as caught:
+            answer(function, arguments)
+        self.assertIs(type(caught.exception), error)
+        return caught.exception
+
+    def test_each_wrong_value_alone(self):
+        for function, kinds in FUNCTIONS:
+            for at, (_, wrong_values, error) in enumerate(kinds):
+                arguments = [kind[0] for kind in kinds]
+                for number, wrong in enumerate(wrong_values):
+                    with self.subTest(function=function.__name__, at=at, number=number):
+                        arguments[at] = wrong
+                        self.check(function, arguments, error)
+
+    def test_the_first_of_several_wrong_values(self):
+        for function, kinds in FUNCTIONS:
+            choices = [[kind[0]] + kind[1][::5] + kind[1][-1:] for kind in kinds]
+            for picks in itertools.product(*[range(len(choice)) for choice in choices]):
+                wrong = [at for at, pick in enumerate(picks) if pick > 0]
+                if wrong:
+                    arguments = [choice[pick] for choice, pick in zip(choices, picks)]
+                    with self.subTest(function=function.__name__, picks=picks):
+                        self.check(function, arguments, kinds[wrong[0]][2])
+
+    def test_valid_values(self):
+        for function, kinds in FUNCTIONS:
+            answer(function, [kind[0] for kind in kinds])
+
+    def test_places_of_no_entries(self):
+        self.check(block_sizes, [[], 0], errors.InvalidPlace)
+        self.check(relation, [[], 0, 0], errors.InvalidPlace)
+
+    def test_edges_of_places(self):
+        self.check(block_sizes, [[7], 1], errors.InvalidPlace)
+        self.check(block_sizes, [[7], -1], errors.InvalidPlace)
+        self.check(block_sizes, [[7, 8], True], errors.InvalidPlace)
+        self.assertEqual([block_sizes([7], 0), block_sizes([7, 8], 1)], [(0, 0), (0, 0)])
+
+    def test_the_same_place_twice(self):
+        for place in range(5):
+            self.check(relation, [TIMES, place, place], errors.InvalidPlace)
+        self.check(relation, [[1, 2, 2], 1, 1], errors.InvalidTimes)
+        self.check(relation, [[1], 0, 0], errors.InvalidPlace)
+
+    def test_edges_of_lengths(self):
+        for length in (0, 40):
+            self.assertGreater(count_times(length), 0)
+            self.assertEqual(len(nth_times(length, 0)), length)
+            self.assertEqual(len(next(walk_times(length))), length)
+            self.check(nth_times, [length, count_times(length)], errors.InvalidNumber)
+            self.check(nth_times, [length, -1], errors.InvalidNumber)
+        self.assertEqual([count_with(0, 40), count_with(40, 0)], [0, 0])
+        self.check(count_with, [40, 41], errors.InvalidNumber)
+        self.check(count_with, [41, 40], errors.InvalidNumber)
+
+    def test_too_many_times(self):
+        for times in ([1] * 41, [2, 1] * 21, list(range(1, 42)), [1] * 700):
+            self.assertEqual(self.check(times_number, [times], errors.TooLarge).limit, 40)
+        for wrong in ([1] * 41 + [3], [2] * 41, [True] * 41, tuple([1] * 41), [0] * 700):
+            self.check(times_number, [wrong], errors.InvalidTimes)
+        self.assertEqual(times_number([1] * 40), 0)
+
+    def test_generators_raise_at_their_first_item(self):
+        for function, kinds in FUNCTIONS:
+            if function in GENERATORS:
+                for wrong in kinds[0][1]:
+                    told = function(wrong)
+                    self.assertIsInstance(told, types.GeneratorType)
+                    with self.assertRaises(kinds[0][2]):
+                        next(told)
+
+    def test_an_error_changes_nothing(self):
+        row, times = [3, 1, 2], [1, 2, 1]
+        for function, arguments in [(peeled, [row, -1]), (block_sizes, [row, 3]), (relation, [times, 0, 3])]:
+            before = copy.deepcopy(arguments)
+            with self.assertRaises(errors.PeakError):
+                function(*arguments)
+            self.assertEqual(arguments, before)
+
+
+class BeyondTest(unittest.TestCase):
+    """No point names an error for more items or digits than callers should pass."""
+
+    def test_rows(self):
+        for row in drawn_rows(10, 700, 31) + [list(range(900)), [10 ** 80] * 300, [-10 ** 80, 10 ** 80] * 200]:
+            steps = list(peel_steps(row))
+            times = times_of(row)
+            self.assertEqual(rounds_needed(row), len(steps) - 1)
+            self.assertEqual(peeled(row, 1), steps[min(1, len(steps) - 1)])
+            self.assertEqual(peeled(row, 10 ** 100), [])
+            self.assertEqual(places_in_round(row, 10 ** 100), [])
+            self.assertEqual(len(peaks_of(row)), times.count(1))
+            self.assertEqual(times_of(row_with(times)), times)
+
+    def test_blocks_and_relations(self):
+        rising = list(range(800))
+        self.assertEqual([block_sizes(rising, 0), block_sizes(rising, 799)], [(0, 799), (0, 0)])
+        times = plain_times(rising)
+        self.assertEqual([relation(times, 0, 799), relation(times, 799, 0)], ["<=", ">="])
+        self.assertEqual(relation([1] * 800, 5, 700), "=")
+        self.assertEqual(relation([2, 1, 3, 1] * 200, 0, 799), "open")
+
+    def test_answers_can_be_passed_back(self):
+        times = nth_times(40, count_times(40) // 3)
+        self.assertEqual(times_of(row_with(times * 20)), times * 20)
+        self.assertEqual(times_number(times), count_times(40) // 3)

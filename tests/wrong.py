@@ -1,0 +1,49 @@
+"""Values that are not what a function asks for."""
+
+
+class Hostile:
+    """An object that fails whenever somebody looks at it more closely than by its class."""
+
+    def fail(self, *rest):
+        raise RuntimeError("nobody should ask")
+
+    __eq__ = __ne__ = __lt__ = __le__ = __gt__ = __ge__ = fail
+    __len__ = __iter__ = __getitem__ = __contains__ = __bool__ = fail
+    __int__ = __index__ = __neg__ = __add__ = __sub__ = __hash__ = __repr__ = fail
+
+
+class Plain:
+    """An object of another class."""
+
+
+def nested(depth):
+    """A list that is nested so many levels deep."""
+    value = []
+    for _ in range(depth):
+        value = [value]
+    return value
+
+
+# Of no kind that a function of the package takes.
+NOTHING = [
+    None, "", "1", "1 2", "-", b"1", (), (1,), (1, 2), ((1, 2),), {}, {1: 1}, {"row": [1]}, {1, 2}, frozenset(),
+    range(3), object(), Plain(), Plain, int, list, len, Hostile(), Ellipsis, NotImplemented, iter([1]),
+]
+
+# Items that make a list no row, wherever they stand in it.
+NO_ENTRIES = [None, True, False, "1", "", b"1", (), (1,), [], [1], [[1]], {}, {1: 1}, object(), Plain, Hostile()]
+
+NOT_INTEGERS = NOTHING + [True, False, [], [0], [1], [[0]], nested(20)]
+
+NOT_ROWS = (
+    NOTHING + [True, False, 0, 1, -1, 10 ** 30, nested(1), nested(20), [[1], [2]], [(1, 2)], [[1, 2], 3]]
+    + [[item] for item in NO_ENTRIES]
+    + [[1, 2, item] for item in NO_ENTRIES]
+    + [[item, 1] for item in NO_ENTRIES]
+)
+
+# Rows, but the times of none.
+ROWS_NOT_TIMES = [
+    [0], [-1], [2], [10 ** 30], [-10 ** 30], [1, 0], [0, 1], [2, 2], [1, 3], [3, 1], [1, 2, 2], [2, 2, 1], [2, 1, 3, 1, 3],
+    [1, 3, 1], [2, 1, 4, 1, 2], [1, 2, 4], [3, 2, 2, 1], [1, -2], [-1, 2], [0, 0], [1, 2, 1, 0], [1, 10 ** 31],
+]
