@@ -171,3 +171,60 @@ def drawn_rows(number, most, seed):
             row += stretch(chance, chance.randint(1, chance.choice([3, 10, most])))
         rows.append(row[:length])
     return rows
+
+
+def plain_is_clear(times):
+    """Whether between two equal times there always stands a greater one (point 12)."""
+    for place, other in itertools.combinations(range(len(times)), 2):
+        if times[place] == times[other] and max(times[place:other]) == times[place]:
+            return False
+    return True
+
+
+def plain_parents(row):
+    """The places above the entries of a row of different entries in its tree, None for the root (point 12)."""
+    parents = [None] * len(row)
+
+    def stand(first, end, above):
+        if first < end:
+            root = row.index(min(row[first:end]))
+            parents[root] = above
+            stand(first, root, root)
+            stand(root + 1, end, root)
+
+    stand(0, len(row), None)
+    return parents
+
+
+def places_of(order):
+    """The list of the places of an order from the one with the integer 0 on (point 13)."""
+    return [order.index(integer) for integer in range(len(order))]
+
+
+@functools.cache
+def orders_tuples(length):
+    """All orders of a length by their times, each list in the sequence of point 13."""
+    found = {}
+    for order in itertools.permutations(range(length)):
+        found.setdefault(tuple(plain_times(order)), []).append(order)
+    return {times: tuple(sorted(orders, key=places_of)) for times, orders in found.items()}
+
+
+def all_orders(length):
+    """Pairs of times and the list of all their orders in the sequence of point 13, as new lists."""
+    return [(list(times), [list(order) for order in orders]) for times, orders in orders_tuples(length).items()]
+
+
+def drawn_orders(number, least, most, seed):
+    """So many orders with `least` to `most` places; always the same."""
+    chance = random.Random(seed)
+    orders = []
+    for _ in range(number):
+        order = list(range(chance.randint(least, most)))
+        chance.shuffle(order)
+        # Some are nearly sorted, so that their trees are high.
+        if chance.random() < 0.3:
+            middle = len(order) // 2
+            order = sorted(order[:middle]) + sorted(order[middle:], reverse=True)
+        orders.append(order)
+    return orders

@@ -4,10 +4,14 @@ import copy
 import itertools
 import unittest
 
+from peakpeel.before import count_before, rows_before
 from peakpeel.counting import count_times, count_with, nth_times, times_number, walk_times
+from peakpeel.joins import Times
+from peakpeel.orders import count_orders, count_within, is_clear, nth_order, order_number, parent_of
+from peakpeel.ranges import time_if, time_ranges
 from peakpeel.rows import block_sizes, is_row, peaks_of, peel_steps, peeled
 from peakpeel.times import is_times, places_in_round, relation, rounds_needed, row_with, times_of
-from tests.plain import drawn_rows, plain_times
+from tests.plain import drawn_orders, drawn_rows, plain_times
 
 
 def calls_of(row):
@@ -19,13 +23,36 @@ def calls_of(row):
         (peel_steps, [row]), (block_sizes, [row, 0]), (block_sizes, [row, last]), (times_of, [row]),
         (rounds_needed, [row]), (places_in_round, [row, 1]), (places_in_round, [row, 99]), (is_times, [row]),
         (is_times, [times]), (row_with, [times]), (relation, [times, 0, last]), (times_number, [times]),
+        (is_clear, [times]), (time_ranges, [row, 0]), (time_ranges, [row, last]), (time_if, [row, last, 3]),
+        (count_before, [row, 40, 200]), (listed_times, [times]), (joined_times, [times]),
     ]
+
+
+def order_calls(order):
+    """Each function over orders, and over their times, with valid arguments."""
+    times = plain_times(order)
+    return [
+        (is_clear, [times]), (parent_of, [times, 0]), (count_orders, [times]), (nth_order, [times, 0]),
+        (order_number, [order]),
+    ]
+
+
+def listed_times(times):
+    return Times(times).listed
+
+
+def joined_times(times):
+    """The lists of several objects, among them those that an object is joined from."""
+    one = Times(times)
+    several = [one, one + one, one | one, one * 2, one * 1, one + Times([])]
+    return [told.listed for told in several + [one]]
 
 
 def counting_calls():
     return [
         (count_times, [5]), (count_with, [5, 3]), (nth_times, [5, 70]), (nth_times, [0, 0]), (walk_times, [4]),
-        (walk_times, [0]),
+        (walk_times, [0]), (nth_times, [4, 3]), (nth_times, [12, 10 ** 5]), (count_within, [5, 3]),
+        (rows_before, [[1, 2], 4, 4]), (rows_before, [[], 0, 1]), (rows_before, [[], 3, 3]), (nth_order, [[], 0]),
     ]
 
 
@@ -47,33 +74,36 @@ class ConventionTest(unittest.TestCase):
     def rows(self):
         return [row for row in drawn_rows(30, 40, 41) if len(row) > 1] + [[3, 3], [1, 2, 3]]
 
+    def calls(self):
+        found = [call for row in self.rows() for call in calls_of(row) + counting_calls()]
+        return found + [call for order in drawn_orders(10, 2, 60, 42) for call in order_calls(order)]
+
     def test_arguments_stay_as_they_are(self):
-        for row in self.rows():
-            for function, arguments in calls_of(row):
-                before = copy.deepcopy(arguments)
-                answer(function, arguments)
-                self.assertEqual(arguments, before, function.__name__)
+        for function, arguments in self.calls():
+            before = copy.deepcopy(arguments)
+            answer(function, arguments)
+            self.assertEqual(arguments, before, function.__name__)
 
     def test_changed_results_have_no_effect(self):
-        for row in self.rows():
-            for function, arguments in calls_of(row) + counting_calls():
-                before = copy.deepcopy(arguments)
-                first = answer(function, arguments)
-                kept = copy.deepcopy(first)
-                spoil(first)
-                self.assertEqual(arguments, before, function.__name__)
-                self.assertEqual(answer(function, arguments), kept, function.__name__)
+        for function, arguments in self.calls():
+            before = copy.deepcopy(arguments)
+            first = answer(function, arguments)
+            kept = copy.deepcopy(first)
+            spoil(first)
+            self.assertEqual(arguments, before, function.__name__)
+            self.assertEqual(answer(function, arguments), kept, function.__name__)
 
     def test_equal_arguments_give_equal_results(self):
-        for row in self.rows():
-            for one, two in zip(calls_of(row), calls_of(list(row))):
-                self.assertEqual(answer(*one), answer(*two))
+        for one, two in zip(self.calls(), self.calls()):
+            self.assertEqual(answer(*one), answer(*two))
 
     def test_predicates_return_truth_values(self):
         for value in ([], [1], [2], None, [True], "x"):
             self.assertIn(is_row(value), (True, False))
             self.assertIs(type(is_row(value)), bool)
             self.assertIs(type(is_times(value)), bool)
+        for times in ([], [1], [1, 1], [1, 2]):
+            self.assertIs(type(is_clear(times)), bool)
 
 
 class GeneratorTest(unittest.TestCase):

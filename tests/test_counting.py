@@ -3,6 +3,7 @@
 import itertools
 import random
 import unittest
+from unittest import mock
 
 from peakpeel.counting import count_times, count_with, nth_times, times_number, walk_times
 from peakpeel.times import is_times, times_of
@@ -102,3 +103,39 @@ class LongTest(unittest.TestCase):
         self.assertEqual(first[0], [1] * 40)
         keys = [sequence_key(times) for times in first]
         self.assertEqual(keys, sorted(keys))
+
+
+class KeptTest(unittest.TestCase):
+    """What takes long is worked out once, whatever is asked for."""
+
+    def test_tables_are_kept(self):
+        count_times(0)
+        with mock.patch("peakpeel.counting.Tables", side_effect=AssertionError):
+            for length in range(41):
+                self.assertEqual(times_number(nth_times(length, count_times(length) // 2)), count_times(length) // 2)
+            self.assertEqual(len(list(walk_times(5))), count_times(5))
+            self.assertEqual(count_with(40, 40), 2 ** 39)
+
+    def test_answers_that_are_changed(self):
+        for length in range(9):
+            for number in range(0, count_times(length), 50):
+                known = nth_times(length, number)
+                known_again = list(known)
+                known.append(99)
+                known[0] = 99
+                self.assertEqual(nth_times(length, number), known_again)
+                self.assertEqual(times_number(known_again), number)
+        for times in walk_times(6):
+            times.clear()
+        self.assertEqual(list(walk_times(6)), all_times(6))
+
+    def test_long_runs(self):
+        # Neighbours with each greatest time of each length, numbered back.
+        for length in range(1, 41):
+            number = 0
+            for most in range(1, length + 1):
+                number += count_with(length, most)
+                around = range(number - 1, min(number + 1, count_times(length)))
+                found = [nth_times(length, near) for near in around]
+                self.assertEqual([times_number(times) for times in found], list(around))
+                self.assertEqual([max(times) for times in found], [most, most + 1][:len(around)])

@@ -46,6 +46,20 @@ INTERFACE = {
         "count_times": ["length"], "count_with": ["length", "most"], "nth_times": ["length", "number"],
         "times_number": ["times"], "walk_times": ["length"],
     },
+    "orders": {
+        "is_clear": ["times"], "parent_of": ["times", "place"], "count_orders": ["times"],
+        "nth_order": ["times", "number"], "order_number": ["order"], "count_within": ["length", "rounds"],
+    },
+    "before": {"count_before": ["row", "length", "below"], "rows_before": ["row", "length", "below"]},
+    "ranges": {"time_ranges": ["row", "place"], "time_if": ["row", "place", "entry"]},
+    "joins": {"Times": None},
+}
+# What the interface lists for classes, by the class: each stands in the class itself.
+METHODS = {
+    "Times": {
+        "__init__", "listed", "highest", "__add__", "__or__", "__mul__", "__len__", "__getitem__", "__contains__",
+        "__iter__", "__eq__", "__call__",
+    },
 }
 
 
@@ -148,6 +162,8 @@ class FileTest(unittest.TestCase):
                     defined[node.name] = [arg.arg for arg in node.args.args]
                 elif isinstance(node, ast.ClassDef):
                     defined[node.name] = None
+                    methods = {part.name for part in node.body if isinstance(part, ast.FunctionDef)}
+                    self.assertLessEqual(METHODS.get(node.name, set()), methods, node.name)
             for name, parameters in parts.items():
                 self.assertIn(name, defined, stem)
                 self.assertEqual(defined[name], parameters, name)

@@ -1,4 +1,4 @@
-"""Tests of the errors of peakpeel.rows, peakpeel.times and peakpeel.counting: point 5."""
+"""Tests of the errors of all functions, except those of peakpeel.joins: point 5."""
 
 import copy
 import itertools
@@ -6,11 +6,14 @@ import types
 import unittest
 
 from peakpeel import errors
+from peakpeel.before import count_before, rows_before
 from peakpeel.counting import count_times, count_with, nth_times, times_number, walk_times
+from peakpeel.orders import count_orders, count_within, is_clear, nth_order, order_number, parent_of
+from peakpeel.ranges import time_if, time_ranges
 from peakpeel.rows import block_sizes, peaks_of, peel_steps, peeled
 from peakpeel.times import places_in_round, relation, rounds_needed, row_with, times_of
-from tests.plain import drawn_rows, plain_times
-from tests.wrong import NOT_INTEGERS, NOT_ROWS, ROWS_NOT_TIMES
+from tests.plain import drawn_orders, drawn_rows, plain_times
+from tests.wrong import NOT_INTEGERS, NOT_ROWS, ROWS_NOT_ORDERS, ROWS_NOT_TIMES
 
 ROW = [5, 1, 4, 2, 3]
 TIMES = [1, 3, 1, 2, 1]
@@ -24,6 +27,11 @@ ROUNDS_KIND = (1, NOT_INTEGERS + [-1, -10 ** 30], errors.InvalidRounds)
 ROUND_KIND = (1, NOT_INTEGERS + [0, -1, -10 ** 30], errors.InvalidRounds)
 LENGTH_KIND = (3, NOT_INTEGERS + [-1, 41, 42, 10 ** 30, -10 ** 30], errors.InvalidNumber)
 NUMBER_KIND = (3, NOT_INTEGERS + [-1, -9, 9, 10, 10 ** 30], errors.InvalidNumber)
+
+ORDER_NUMBER_KIND = (3, NOT_INTEGERS + [-1, -8, 8, 9, 10 ** 30], errors.InvalidNumber)
+ORDER_KIND = ([4, 0, 3, 1, 2], NOT_ROWS + ROWS_NOT_ORDERS, errors.NotOrder)
+BELOW_KIND = (4, NOT_INTEGERS + [0, -1, -10 ** 30], errors.InvalidNumber)
+ENTRY_KIND = (-6, NOT_INTEGERS, errors.InvalidEntry)
 
 FUNCTIONS = [
     (peaks_of, [ROW_KIND]),
@@ -40,6 +48,16 @@ FUNCTIONS = [
     (nth_times, [LENGTH_KIND, NUMBER_KIND]),
     (times_number, [TIMES_KIND]),
     (walk_times, [LENGTH_KIND]),
+    (is_clear, [TIMES_KIND]),
+    (parent_of, [TIMES_KIND, PLACE_KIND]),
+    (count_orders, [TIMES_KIND]),
+    (nth_order, [TIMES_KIND, ORDER_NUMBER_KIND]),
+    (order_number, [ORDER_KIND]),
+    (count_within, [LENGTH_KIND, ROUNDS_KIND]),
+    (count_before, [ROW_KIND, LENGTH_KIND, BELOW_KIND]),
+    (rows_before, [ROW_KIND, LENGTH_KIND, BELOW_KIND]),
+    (time_ranges, [ROW_KIND, PLACE_KIND]),
+    (time_if, [ROW_KIND, PLACE_KIND, ENTRY_KIND]),
 ]
 GENERATORS = [peel_steps, walk_times]
 
@@ -114,6 +132,51 @@ class WrongTest(unittest.TestCase):
             self.check(times_number, [wrong], errors.InvalidTimes)
         self.assertEqual(times_number([1] * 40), 0)
 
+    def test_times_that_are_not_clear(self):
+        for times in ([1, 1], [2, 1, 2], [1, 2, 1, 1], [1, 2, 1, 2, 1], [1] * 700, [1, 2] * 60):
+            self.check(count_orders, [times], errors.NotClear)
+            for number in NOT_INTEGERS + [0, 1, -1, 10 ** 100]:
+                self.check(nth_order, [times, number], errors.NotClear)
+            for place in range(2):
+                self.check(parent_of, [times, place], errors.NotClear)
+            for place in NOT_INTEGERS + [-1, len(times), 10 ** 31]:
+                self.check(parent_of, [times, place], errors.InvalidPlace)
+        for times in ROWS_NOT_TIMES + [[2, 2, 2], (1, 1), None]:
+            self.check(count_orders, [times], errors.InvalidTimes)
+            self.check(nth_order, [times, -1], errors.InvalidTimes)
+            self.check(parent_of, [times, -1], errors.InvalidTimes)
+
+    def test_edges_of_the_numbers_of_orders(self):
+        for order in [[], [0], [1, 0], [0, 2, 1]] + drawn_orders(5, 40, 130, 32):
+            times = plain_times(order)
+            count = count_orders(times)
+            for number in (-1, -count, count, count + 1, count * 10 ** 9):
+                self.check(nth_order, [times, number], errors.InvalidNumber)
+            self.assertEqual(len(nth_order(times, count - 1)), len(order))
+
+    def test_edges_of_places_and_numbers(self):
+        for function in (parent_of, time_ranges):
+            self.check(function, [[], 0], errors.InvalidPlace)
+            self.check(function, [[1], 1], errors.InvalidPlace)
+            self.check(function, [[1], -1], errors.InvalidPlace)
+        self.check(time_if, [[], 0, 5], errors.InvalidPlace)
+        self.check(time_if, [[1], 1, None], errors.InvalidPlace)
+        self.check(time_if, [[1], 0, True], errors.InvalidEntry)
+        for function in (count_before, rows_before):
+            self.assertIn(function([1, 1], 40, 1), (0, []))
+            self.check(function, [[1], 40, 0], errors.InvalidNumber)
+            self.check(function, [[1], 41, 2], errors.InvalidNumber)
+            self.check(function, [[1] * 700, 41, 0], errors.InvalidNumber)
+            self.check(function, [[True], 41, 0], errors.InvalidRow)
+        self.check(count_within, [41, -1], errors.InvalidNumber)
+        self.check(count_within, [40, -1], errors.InvalidRounds)
+
+    def test_too_many_rows(self):
+        for row, length, below in [([], 1, 1001), ([1], 40, 9), ([0], 3, 10 ** 31), ([], 40, 10 ** 31), ([0], 2, 502)]:
+            self.assertGreater(count_before(row, length, below), 1000)
+            self.assertEqual(self.check(rows_before, [row, length, below], errors.TooLarge).limit, 1000)
+        self.check(rows_before, [[1], 41, 10 ** 31], errors.InvalidNumber)
+
     def test_generators_raise_at_their_first_item(self):
         for function, kinds in FUNCTIONS:
             if function in GENERATORS:
@@ -124,8 +187,12 @@ class WrongTest(unittest.TestCase):
                         next(told)
 
     def test_an_error_changes_nothing(self):
-        row, times = [3, 1, 2], [1, 2, 1]
-        for function, arguments in [(peeled, [row, -1]), (block_sizes, [row, 3]), (relation, [times, 0, 3])]:
+        row, times, unclear = [3, 1, 2], [1, 2, 1], [1, 1]
+        for function, arguments in [
+            (peeled, [row, -1]), (block_sizes, [row, 3]), (relation, [times, 0, 3]), (nth_order, [times, 2]),
+            (parent_of, [unclear, 0]), (order_number, [row]), (rows_before, [row, 9, 99]), (time_ranges, [row, 3]),
+            (time_if, [row, 0, None]), (count_before, [row, 9, 0]),
+        ]:
             before = copy.deepcopy(arguments)
             with self.assertRaises(errors.PeakError):
                 function(*arguments)
@@ -158,3 +225,18 @@ class BeyondTest(unittest.TestCase):
         times = nth_times(40, count_times(40) // 3)
         self.assertEqual(times_of(row_with(times * 20)), times * 20)
         self.assertEqual(times_number(times), count_times(40) // 3)
+
+    def test_orders_and_ranges(self):
+        for row in drawn_rows(5, 700, 33):
+            times = times_of(row)
+            if row:
+                self.assertIn(times[0], [time for time, _, _ in time_ranges(row, 0)])
+                self.assertEqual(len(time_if(row, len(row) - 1, 10 ** 80)), len(row))
+            self.assertIn(is_clear(times), (True, False))
+            too_long = [row + [0] * 41, 40, 10 ** 99]
+            self.assertEqual([count_before(*too_long), rows_before(*too_long)], [0, []])
+        rising = list(range(700, 0, -1))
+        self.assertEqual([parent_of(rising, 699), count_orders(rising), len(nth_order(rising, 0))], [698, 1, 700])
+        self.assertEqual(order_number(list(range(700))), 0)
+        self.assertEqual(count_within(40, 10 ** 100), count_within(40, 40))
+        self.assertEqual(count_before([], 40, 10 ** 99), 10 ** 99)
