@@ -8,8 +8,8 @@ neighbour, in front of it or behind it.
 
 from itertools import accumulate
 
-from peakpeel.checks import is_at_least, is_within, need_length
-from peakpeel.errors import InvalidNumber, TooLarge
+from peakpeel.checks import is_within, need_at_least, need_length
+from peakpeel.errors import TooLarge
 from peakpeel.rows import need_row
 
 MOST_ROWS = 1000
@@ -106,8 +106,7 @@ def need_before(row, length, below):
     """Raises the errors for arguments that do not tell which rows are asked for."""
     need_row(row)
     need_length(length)
-    if not is_at_least(below, 1):
-        raise InvalidNumber("not an integer from 1 on")
+    need_at_least(below, 1)
 
 
 def is_possible(row, length, below):

@@ -21,6 +21,12 @@ def is_within(value, least, most):
     return is_an_integer(value) and least <= value <= most
 
 
+def need_at_least(number, least):
+    """Raises InvalidNumber for any value that is not an integer from `least` on."""
+    if not is_at_least(number, least):
+        raise InvalidNumber(f"not an integer from {least} on")
+
+
 def need_number(number, most):
     """Raises InvalidNumber for any value that is not an integer from 0 to `most`."""
     if not is_within(number, 0, most):

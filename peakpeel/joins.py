@@ -1,8 +1,8 @@
 """Times as objects that can be joined and repeated."""
 
-from peakpeel.checks import is_an_integer, is_at_least, is_within
-from peakpeel.errors import InvalidIndex, InvalidNumber, NotTimes, TooLarge
-from peakpeel.rows import need_rounds
+from peakpeel.checks import is_an_integer, is_within, need_at_least
+from peakpeel.errors import InvalidIndex, NotTimes, TooLarge
+from peakpeel.rows import count_left, need_rounds
 from peakpeel.times import need_times
 
 # The greatest number of items that repeated times may have.
@@ -51,8 +51,7 @@ class Times:
         return made(self._items + [max(self.highest, other.highest) + 1] + other._items)
 
     def __mul__(self, other):
-        if not is_at_least(other, 0):
-            raise InvalidNumber("not an integer from 0 on")
+        need_at_least(other, 0)
         if len(self._items) * other > MOST_REPEATED:
             raise TooLarge(MOST_REPEATED)
         # Without items any number is allowed, but Python repeats no list 10 ** 30 times.
@@ -79,4 +78,4 @@ class Times:
     def __call__(self, rounds):
         """Returns how many entries are left after so many rounds."""
         need_rounds(rounds, 0)
-        return len([time for time in self._items if time > rounds])
+        return count_left(self._items, rounds)

@@ -2,9 +2,7 @@
 
 from itertools import accumulate
 
-from peakpeel.checks import is_an_integer
-from peakpeel.errors import InvalidEntry
-from peakpeel.rows import need_place, need_row, rounds_of
+from peakpeel.rows import need_entry, need_place, need_row, rounds_of
 
 
 def bounded_times(entries):
@@ -40,6 +38,5 @@ def time_if(row, place, entry):
     """Returns the times of the row with this entry at a place."""
     need_row(row)
     need_place(place, len(row))
-    if not is_an_integer(entry):
-        raise InvalidEntry("not an integer")
+    need_entry(entry)
     return rounds_of(row[:place] + [entry] + row[place + 1:])

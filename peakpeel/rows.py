@@ -1,7 +1,7 @@
 """Rows, their peaks, their rounds and the blocks of their entries."""
 
 from peakpeel.checks import is_at_least, is_an_integer, is_within
-from peakpeel.errors import InvalidPlace, InvalidRounds, InvalidRow
+from peakpeel.errors import InvalidEntry, InvalidPlace, InvalidRounds, InvalidRow
 
 
 def is_row(value):
@@ -25,6 +25,12 @@ def need_rounds(rounds, least):
     """Raises InvalidRounds for any value that is not an integer from `least` on."""
     if not is_at_least(rounds, least):
         raise InvalidRounds(f"not an integer from {least} on")
+
+
+def need_entry(entry):
+    """Raises InvalidEntry for any value that is not an integer."""
+    if not is_an_integer(entry):
+        raise InvalidEntry("not an integer")
 
 
 def is_peak(row, place):
@@ -69,6 +75,11 @@ def peeled(row, rounds):
     need_row(row)
     need_rounds(rounds, 0)
     return [entry for entry, last in zip(row, rounds_of(row)) if last > rounds]
+
+
+def count_left(times, rounds):
+    """Returns how many entries with these times are left after so many rounds."""
+    return len([time for time in times if time > rounds])
 
 
 def peel_steps(row):

@@ -6,6 +6,11 @@ Nothing here imports the package.
 import functools
 import itertools
 import random
+import re
+
+# The text of an integer (point 14); the form of the text of a row.
+NUMBER = "(?:0|-?[1-9][0-9]*)"
+ROW_TEXT = re.compile(f"-|{NUMBER}(?: {NUMBER})*")
 
 
 def plain_peaks(row):
@@ -228,3 +233,40 @@ def drawn_orders(number, least, most, seed):
             order = sorted(order[:middle]) + sorted(order[middle:], reverse=True)
         orders.append(order)
     return orders
+
+
+def plain_text(row):
+    """The text of a row (point 14)."""
+    return " ".join([str(entry) for entry in row]) or "-"
+
+
+def drawn_entries(number, most, seed):
+    """So many rows of up to `most` entries of up to 31 digits, all lengths alike; always the same."""
+    chance = random.Random(seed)
+    rows = []
+    for _ in range(number):
+        rows.append([])
+        for _ in range(chance.randint(0, most)):
+            below = 10 ** chance.randint(0, 31)
+            rows[-1].append(chance.choice([-1, 1]) * chance.randrange(below))
+    return rows
+
+
+# Signs that stand in texts and commands, and some that do not.
+SIGNS = list("    ---0011234567899") + list("+_.,:*xrowput\n\t'") + ["\u0665", "\u00b2", "\u00a0", "\uff11", "\x00"]
+
+
+def with_changed_signs(text, many, chance):
+    """A text in which so many signs are changed, put in, left out or swapped with the next one."""
+    for _ in range(many):
+        at = chance.randint(0, len(text))
+        kind = chance.randrange(4)
+        if kind == 0:
+            text = text[:at] + chance.choice(SIGNS) + text[at:]
+        elif kind == 1:
+            text = text[:at] + chance.choice(SIGNS) + text[at + 1:]
+        elif kind == 2:
+            text = text[:at] + text[at + 1:]
+        else:
+            text = text[:at] + text[at + 1:at + 2] + text[at:at + 1] + text[at + 2:]
+    return text

@@ -6,12 +6,17 @@ import unittest
 
 from peakpeel.before import count_before, rows_before
 from peakpeel.counting import count_times, count_with, nth_times, times_number, walk_times
+from peakpeel.desk import Desk
 from peakpeel.joins import Times
+from peakpeel.long import long_left, long_needed, long_time
 from peakpeel.orders import count_orders, count_within, is_clear, nth_order, order_number, parent_of
 from peakpeel.ranges import time_if, time_ranges
+from peakpeel.ridges import Ridge, SumRidge
 from peakpeel.rows import block_sizes, is_row, peaks_of, peel_steps, peeled
+from peakpeel.texts import read_row, show_row
 from peakpeel.times import is_times, places_in_round, relation, rounds_needed, row_with, times_of
-from tests.plain import drawn_orders, drawn_rows, plain_times
+from tests.interface import INTERFACE
+from tests.plain import drawn_orders, drawn_rows, plain_text, plain_times
 
 
 def calls_of(row):
@@ -24,7 +29,9 @@ def calls_of(row):
         (rounds_needed, [row]), (places_in_round, [row, 1]), (places_in_round, [row, 99]), (is_times, [row]),
         (is_times, [times]), (row_with, [times]), (relation, [times, 0, last]), (times_number, [times]),
         (is_clear, [times]), (time_ranges, [row, 0]), (time_ranges, [row, last]), (time_if, [row, last, 3]),
-        (count_before, [row, 40, 200]), (listed_times, [times]), (joined_times, [times]),
+        (count_before, [row, 40, 200]), (long_time, [row, 3, last]), (long_time, [row, 10 ** 30, 10 ** 30]),
+        (long_left, [row, 2, 1]), (long_left, [row, 10 ** 30, 1]), (long_needed, [row, 2]), (show_row, [row]),
+        (read_row, [plain_text(row)]),
     ]
 
 
@@ -37,23 +44,68 @@ def order_calls(order):
     ]
 
 
-def listed_times(times):
-    return Times(times).listed
-
-
-def joined_times(times):
-    """The lists of several objects, among them those that an object is joined from."""
-    one = Times(times)
-    several = [one, one + one, one | one, one * 2, one * 1, one + Times([])]
-    return [told.listed for told in several + [one]]
-
-
 def counting_calls():
     return [
         (count_times, [5]), (count_with, [5, 3]), (nth_times, [5, 70]), (nth_times, [0, 0]), (walk_times, [4]),
         (walk_times, [0]), (nth_times, [4, 3]), (nth_times, [12, 10 ** 5]), (count_within, [5, 3]),
         (rows_before, [[1, 2], 4, 4]), (rows_before, [[], 0, 1]), (rows_before, [[], 3, 3]), (nth_order, [[], 0]),
+        (peel_steps, [[]]), (times_of, [[]]), (peaks_of, [[]]), (peeled, [[], 3]), (read_row, ["-"]), (row_with, [[]]),
     ]
+
+
+def times_calls(times):
+    """Each operator, method and property of a Times that is created for the call."""
+    return [
+        (lambda items: Times(items).listed, [times]),
+        (lambda items: Times(items).highest, [times]),
+        (lambda items, others: (Times(items) + Times(others)).listed, [times, [1]]),
+        (lambda items, others: (Times(items) + Times(others)).listed, [times, []]),
+        (lambda items, others: (Times(items) | Times(others)).listed, [times, [2, 1]]),
+        (lambda items, number: (Times(items) * number).listed, [times, 3]),
+        (lambda items, number: (Times(items) * number).listed, [times, 1]),
+        (lambda items: [len(Times(items)), Times(items)[0], 1 in Times(items), Times(items)(1)], [times]),
+        (lambda items: Times(items) == Times(items), [times]),
+    ]
+
+
+def ridge_calls(row):
+    """Each method and property of a ridge that is created for the call."""
+    found = []
+    for kind in (Ridge, SumRidge):
+        found += [
+            (lambda entries, kind=kind: [kind(entries).put(1, 5), kind(entries).take(0), len(kind(entries))], [row]),
+            (lambda entries, kind=kind: [kind(entries).change(0, 5), kind(entries).peel()], [row]),
+            (lambda entries, kind=kind: kind(entries).try_peel(0, 1, 0, 10 ** 30), [row]),
+            (lambda entries, kind=kind: kind(entries).row_now, [row]),
+            (lambda entries, kind=kind: kind(entries).times_now, [row]),
+            (lambda entries, kind=kind: list(kind(entries).rows_so_far()), [row]),
+            (lambda entries, kind=kind: kind(entries).twin().row_now, [row]),
+            (lambda entries, kind=kind: changed(kind(entries)), [row]),
+            (lambda entries, kind=kind: list(changed(kind(entries)).twin().rows_so_far()), [row]),
+            (lambda entries, kind=kind: changed(kind(entries)).row_now, [row]),
+            (lambda text, kind=kind: kind.read(text).row_now, [plain_text(row)]),
+        ]
+    found.append((lambda entries: changed(SumRidge(entries)).sum_now, [row]))
+    return found
+
+
+def changed(ridge):
+    """A ridge behind some changes, one of which is reverted."""
+    ridge.change(0, 5)
+    ridge.put(0, -5)
+    ridge.undo()
+    ridge.peel()
+    return ridge
+
+
+def desk_calls(row):
+    commands = ["take 0", "put 0 7", "change 0 8", "peel 1", "show", "times", "needed", "undo", "ranges 0", "show"]
+    return [(lambda text: run([f"row {text}", *commands]), [plain_text(row)])]
+
+
+def run(commands):
+    desk = Desk()
+    return [desk.execute(command) for command in commands]
 
 
 def spoil(value):
@@ -75,8 +127,15 @@ class ConventionTest(unittest.TestCase):
         return [row for row in drawn_rows(30, 40, 41) if len(row) > 1] + [[3, 3], [1, 2, 3]]
 
     def calls(self):
-        found = [call for row in self.rows() for call in calls_of(row) + counting_calls()]
+        found = counting_calls()
+        for row in self.rows():
+            found += calls_of(row) + times_calls(plain_times(row)) + ridge_calls(row) + desk_calls(row)
         return found + [call for order in drawn_orders(10, 2, 60, 42) for call in order_calls(order)]
+
+    def test_every_function_is_called(self):
+        known = {name for parts in INTERFACE.values() for name, parameters in parts.items() if parameters}
+        found = {function.__name__ for function, _ in self.calls()} - {"<lambda>"}
+        self.assertEqual(found, known)
 
     def test_arguments_stay_as_they_are(self):
         for function, arguments in self.calls():
@@ -106,9 +165,47 @@ class ConventionTest(unittest.TestCase):
             self.assertIs(type(is_clear(times)), bool)
 
 
+class ObjectTest(unittest.TestCase):
+    """Results of one and the same object."""
+
+    def objects(self):
+        """Tuples of an object and of all that it can be asked without changing it."""
+        row = [5, 1, 4, 4, 2, 3]
+        for kind in (Ridge, SumRidge):
+            for ridge in (kind(row), changed(kind(row)), changed(kind(row)).twin()):
+                questions = [
+                    lambda one: one.row_now, lambda one: one.times_now, lambda one: list(one.rows_so_far()),
+                    lambda one: one.try_peel(0, 1, 1, 10 ** 30), lambda one: one.try_peel(), lambda one: one.twin().row_now,
+                    lambda one: list(one.twin().rows_so_far()), len, lambda one: getattr(one, "sum_now", None),
+                    lambda one: one == Ridge(row),
+                ]
+                yield ridge, questions
+        other = Times([2, 1])
+        questions = [
+            lambda one: one.listed, lambda one: one.highest, lambda one: (one + other).listed, lambda one: (one * 1).listed,
+            lambda one: (other + one).listed, lambda one: (one | other).listed, lambda one: (one * 3).listed, len,
+            lambda one: one[0], lambda one: 1 in one, lambda one: one(1), lambda one: one == other,
+        ]
+        for times in (Times(plain_times(row)), other, other + Times([]), other | other, other * 2):
+            yield times, questions
+
+    def test_changed_results_have_no_effect(self):
+        for told, questions in self.objects():
+            known = [copy.deepcopy(question(told)) for question in questions]
+            for at, question in enumerate(questions):
+                spoil(question(told))
+                self.assertEqual([question(told) for question in questions], known, at)
+
+
 class GeneratorTest(unittest.TestCase):
+    def makers(self):
+        ridge = Ridge([1, 2, 3])
+        for place in range(4):
+            ridge.put(place, 9)
+        return [lambda: peel_steps([1, 2, 3, 2, 5, 1]), lambda: walk_times(4), lambda: peel_steps([]), ridge.rows_so_far]
+
     def test_changed_items_have_no_effect(self):
-        for make in (lambda: peel_steps([1, 2, 3, 2, 5, 1]), lambda: walk_times(4), lambda: peel_steps([])):
+        for make in self.makers():
             known = list(make())
             found = []
             for item in make():
@@ -133,7 +230,7 @@ class GeneratorTest(unittest.TestCase):
         self.assertEqual(found + list(steps), known)
 
     def test_two_walks_at_the_same_time(self):
-        for make in (lambda: peel_steps(list(range(9))), lambda: walk_times(5)):
+        for make in [lambda: peel_steps(list(range(9))), lambda: walk_times(5), self.makers()[-1]]:
             known = list(make())
             self.assertEqual(list(zip(make(), make())), list(zip(known, known)))
             ahead, behind = make(), make()

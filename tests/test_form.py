@@ -6,6 +6,8 @@ import pathlib
 import re
 import unittest
 
+from tests.interface import DECORATED, INTERFACE, METHODS
+
 ROOT = pathlib.Path(__file__).resolve().parent.parent
 PACKAGE = ROOT / "peakpeel"
 
@@ -25,42 +27,6 @@ DECORATORS = re.compile(r"property|\w+\.setter|staticmethod|classmethod")
 FORBIDDEN = (
     ast.AsyncFunctionDef, ast.AsyncFor, ast.AsyncWith, ast.Await, ast.Import, ast.Div, ast.MatMult, ast.TryStar,
 )
-
-# The parts of the interface that have landed: the functions with their parameters, the classes.
-INTERFACE = {
-    "errors": {
-        name: None for name in (
-            "PeakError InvalidRow InvalidTimes InvalidPlace InvalidRounds InvalidNumber InvalidEntry InvalidIndex"
-            " InvalidText InvalidCommand NotClear NotOrder NotTimes NothingToUndo NoRidge TooLarge"
-        ).split()
-    },
-    "rows": {
-        "is_row": ["value"], "peaks_of": ["row"], "peeled": ["row", "rounds"], "peel_steps": ["row"],
-        "block_sizes": ["row", "place"],
-    },
-    "times": {
-        "times_of": ["row"], "rounds_needed": ["row"], "places_in_round": ["row", "rounds"], "is_times": ["value"],
-        "row_with": ["times"], "relation": ["times", "place", "other"],
-    },
-    "counting": {
-        "count_times": ["length"], "count_with": ["length", "most"], "nth_times": ["length", "number"],
-        "times_number": ["times"], "walk_times": ["length"],
-    },
-    "orders": {
-        "is_clear": ["times"], "parent_of": ["times", "place"], "count_orders": ["times"],
-        "nth_order": ["times", "number"], "order_number": ["order"], "count_within": ["length", "rounds"],
-    },
-    "before": {"count_before": ["row", "length", "below"], "rows_before": ["row", "length", "below"]},
-    "ranges": {"time_ranges": ["row", "place"], "time_if": ["row", "place", "entry"]},
-    "joins": {"Times": None},
-}
-# What the interface lists for classes, by the class: each stands in the class itself.
-METHODS = {
-    "Times": {
-        "__init__", "listed", "highest", "__add__", "__or__", "__mul__", "__len__", "__getitem__", "__contains__",
-        "__iter__", "__eq__", "__call__",
-    },
-}
 
 
 def files():
@@ -162,8 +128,16 @@ class FileTest(unittest.TestCase):
                     defined[node.name] = [arg.arg for arg in node.args.args]
                 elif isinstance(node, ast.ClassDef):
                     defined[node.name] = None
-                    methods = {part.name for part in node.body if isinstance(part, ast.FunctionDef)}
-                    self.assertLessEqual(METHODS.get(node.name, set()), methods, node.name)
+                    self.check_methods(node)
             for name, parameters in parts.items():
                 self.assertIn(name, defined, stem)
                 self.assertEqual(defined[name], parameters, name)
+
+    def check_methods(self, node):
+        methods = {part.name: part for part in node.body if isinstance(part, ast.FunctionDef)}
+        for name, parameters in METHODS.get(node.name, {}).items():
+            self.assertIn(name, methods, node.name)
+            if parameters is not None:
+                self.assertEqual(ast.unparse(methods[name].args), parameters, name)
+            decorators = [ast.unparse(decorator) for decorator in methods[name].decorator_list]
+            self.assertEqual(decorators, [known for known, names in DECORATED.items() if name in names], name)

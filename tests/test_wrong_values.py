@@ -1,4 +1,4 @@
-"""Tests of the errors of all functions, except those of peakpeel.joins: point 5."""
+"""Tests of the errors of all functions: point 5. Those of the classes have files of their own."""
 
 import copy
 import itertools
@@ -8,12 +8,15 @@ import unittest
 from peakpeel import errors
 from peakpeel.before import count_before, rows_before
 from peakpeel.counting import count_times, count_with, nth_times, times_number, walk_times
+from peakpeel.long import long_left, long_needed, long_time
 from peakpeel.orders import count_orders, count_within, is_clear, nth_order, order_number, parent_of
 from peakpeel.ranges import time_if, time_ranges
-from peakpeel.rows import block_sizes, peaks_of, peel_steps, peeled
-from peakpeel.times import places_in_round, relation, rounds_needed, row_with, times_of
+from peakpeel.rows import block_sizes, is_row, peaks_of, peel_steps, peeled
+from peakpeel.texts import read_row, show_row
+from peakpeel.times import is_times, places_in_round, relation, rounds_needed, row_with, times_of
+from tests.interface import INTERFACE
 from tests.plain import drawn_orders, drawn_rows, plain_times
-from tests.wrong import NOT_INTEGERS, NOT_ROWS, ROWS_NOT_ORDERS, ROWS_NOT_TIMES
+from tests.wrong import NOT_INTEGERS, NOT_ROWS, NOT_TEXTS, ROWS_NOT_ORDERS, ROWS_NOT_TIMES, WRONG_TEXTS
 
 ROW = [5, 1, 4, 2, 3]
 TIMES = [1, 3, 1, 2, 1]
@@ -32,6 +35,10 @@ ORDER_NUMBER_KIND = (3, NOT_INTEGERS + [-1, -8, 8, 9, 10 ** 30], errors.InvalidN
 ORDER_KIND = ([4, 0, 3, 1, 2], NOT_ROWS + ROWS_NOT_ORDERS, errors.NotOrder)
 BELOW_KIND = (4, NOT_INTEGERS + [0, -1, -10 ** 30], errors.InvalidNumber)
 ENTRY_KIND = (-6, NOT_INTEGERS, errors.InvalidEntry)
+COPIES_KIND = (3, NOT_INTEGERS + [-1, -3, -10 ** 30], errors.InvalidNumber)
+# A place of three copies, which may be none of the row.
+LONG_PLACE_KIND = (14, NOT_INTEGERS + [-1, -15, 15, 16, 10 ** 100, -10 ** 100], errors.InvalidPlace)
+TEXT_KIND = ("5 1 -4", NOT_TEXTS + WRONG_TEXTS, errors.InvalidText)
 
 FUNCTIONS = [
     (peaks_of, [ROW_KIND]),
@@ -58,8 +65,15 @@ FUNCTIONS = [
     (rows_before, [ROW_KIND, LENGTH_KIND, BELOW_KIND]),
     (time_ranges, [ROW_KIND, PLACE_KIND]),
     (time_if, [ROW_KIND, PLACE_KIND, ENTRY_KIND]),
+    (long_time, [ROW_KIND, COPIES_KIND, LONG_PLACE_KIND]),
+    (long_left, [ROW_KIND, COPIES_KIND, ROUNDS_KIND]),
+    (long_needed, [ROW_KIND, COPIES_KIND]),
+    (show_row, [ROW_KIND]),
+    (read_row, [TEXT_KIND]),
 ]
 GENERATORS = [peel_steps, walk_times]
+# These return an answer for any value.
+NEVER_WRONG = [is_row, is_times]
 
 
 def answer(function, arguments):
@@ -69,6 +83,11 @@ def answer(function, arguments):
 
 
 class WrongTest(unittest.TestCase):
+    def test_all_functions_are_here(self):
+        known = sorted(name for parts in INTERFACE.values() for name, parameters in parts.items() if parameters)
+        found = sorted(function.__name__ for function in [function for function, _ in FUNCTIONS] + NEVER_WRONG)
+        self.assertEqual(found, known)
+
     def check(self, function, arguments, error):
         with self.assertRaises(errors.PeakError) as caught:
             answer(function, arguments)
@@ -171,6 +190,19 @@ class WrongTest(unittest.TestCase):
         self.check(count_within, [41, -1], errors.InvalidNumber)
         self.check(count_within, [40, -1], errors.InvalidRounds)
 
+    def test_edges_of_repeated_rows(self):
+        for row in ([], [1], [5, 1]):
+            self.check(long_time, [row, 0, 0], errors.InvalidPlace)
+            self.check(long_time, [row, 3, 3 * len(row)], errors.InvalidPlace)
+            self.check(long_time, [row, 0, None], errors.InvalidPlace)
+            self.check(long_time, [row, -1, None], errors.InvalidNumber)
+            self.check(long_left, [row, 0, -1], errors.InvalidRounds)
+            self.check(long_left, [row, None, None], errors.InvalidNumber)
+            self.check(long_needed, [row, True], errors.InvalidNumber)
+        self.check(long_time, [(), -1, -1], errors.InvalidRow)
+        self.check(long_left, [[True], -1, -1], errors.InvalidRow)
+        self.check(long_needed, [None, None], errors.InvalidRow)
+
     def test_too_many_rows(self):
         for row, length, below in [([], 1, 1001), ([1], 40, 9), ([0], 3, 10 ** 31), ([], 40, 10 ** 31), ([0], 2, 502)]:
             self.assertGreater(count_before(row, length, below), 1000)
@@ -191,7 +223,8 @@ class WrongTest(unittest.TestCase):
         for function, arguments in [
             (peeled, [row, -1]), (block_sizes, [row, 3]), (relation, [times, 0, 3]), (nth_order, [times, 2]),
             (parent_of, [unclear, 0]), (order_number, [row]), (rows_before, [row, 9, 99]), (time_ranges, [row, 3]),
-            (time_if, [row, 0, None]), (count_before, [row, 9, 0]),
+            (time_if, [row, 0, None]), (count_before, [row, 9, 0]), (long_time, [row, 2, 6]), (long_left, [row, 2, -1]),
+            (long_needed, [row, -1]), (show_row, [row + [None]]),
         ]:
             before = copy.deepcopy(arguments)
             with self.assertRaises(errors.PeakError):

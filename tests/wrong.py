@@ -33,6 +33,20 @@ NOTHING = [
 # Items that make a list no row, wherever they stand in it.
 NO_ENTRIES = [None, True, False, "1", "", b"1", (), (1,), [], [1], [[1]], {}, {1: 1}, object(), Plain, Hostile()]
 
+# The texts of no row, and what is no text at all.
+WRONG_TEXTS = [
+    "", " ", "  ", "00", "01", "-0", "-00", "-01", "0-", "--", "--1", "- 1", "1 -", "- -", "-1-", "1-1", "+0", "+1", "1+",
+    " 1", "1 ", " -", "- ", "1  2", "1   2", " 1 2", "1 2 ", "1 2  ", "1 02", "1 -0", "1 2 +3", "1,2", "1, 2", "[1]", "[]",
+    "1.0", "1.", "1e3", "0x1", "1_0", "a", "None", "*", "1 a", "one", "\n", "1\n", "\n1", "1\n2", "1\t2", "\t1", "1\r",
+    "-\n", "1\u00a02", "\u0665", "\u00b2", "\uff11", "1 \u0665", "-\u0665", "\u22121", "1\x00", "\u2007", "1\u2003",
+    "0" * 31, "-" * 31, "0" + "9" * 31, " ".join("0" * 60) + " ", "1 " * 61, "9" * 5000 + " x", "x" * 3000, "\ud800",
+]
+NOT_TEXTS = [
+    None, True, False, 0, 1, -1, 10 ** 30, b"", b"1", b"-", [], [1], ["1"], ["-"], (), ("1",), {}, {"1": 1}, {"1"},
+    frozenset("1"), range(2), object(), Plain(), Plain, str, int, len, Hostile(), Ellipsis, NotImplemented, iter("1"),
+    nested(20),
+]
+
 NOT_INTEGERS = NOTHING + [True, False, [], [0], [1], [[0]], nested(20)]
 
 NOT_ROWS = (
